@@ -118,6 +118,10 @@ def shifting_kind(word, count):
     return None
 
 
+def is_end(kind):
+    return isinstance(kind, (Source, Sink))
+
+
 def kind_by(word):
     pieces = word.partition(":")
     if pieces[1] == "":

@@ -1,7 +1,7 @@
 """A works: read from its text with all refusals, and shown as a text again."""
 
 from storeway.errors import BadRow, NoPart, Ring, TooMany
-from storeway.kinds import Sink, Source, kind_by
+from storeway.kinds import Sink, is_end, kind_by
 from storeway.signs import is_name, number_by
 
 MOST_PARTS = 60
@@ -63,7 +63,7 @@ def part_by(words, place):
     time = number_by(words[2], MOST_TIME)
     if kind is None or time is None or len(words) != 3 + kind.lines():
         raise BadRow(place)
-    if time > 0 and isinstance(kind, (Source, Sink)):
+    if time > 0 and is_end(kind):
         raise BadRow(place)
     return (words[0], kind, time)
 

@@ -4,6 +4,7 @@ import unittest
 
 from storeway import errors
 from storeway.errors import BadLag, BadRow, NoPart, Ring, TooMany, WorksError
+from storeway.works import read
 
 BENEATH = (BadRow, NoPart, TooMany, Ring, BadLag)
 
@@ -26,11 +27,12 @@ class ErrorClasses(unittest.TestCase):
         for name in ("WorksError", "BadRow", "NoPart", "TooMany", "Ring", "BadLag"):
             self.assertEqual(getattr(errors, name).__name__, name)
 
-    def test_row_is_set_when_made(self):
-        for error in (BadRow, NoPart):
-            for row in (0, 7, 60):
-                self.assertEqual(error(row).row, row)
-                self.assertIs(error(row).row.__class__, int)
+    def test_row_is_a_whole_number(self):
+        for error, text in ((BadRow, "a in 0\nbad"), (NoPart, "a in 0\no out 0 b")):
+            with self.assertRaises(error) as caught:
+                read(text)
+            self.assertEqual(caught.exception.row, 1)
+            self.assertIs(caught.exception.row.__class__, int)
 
 
 if __name__ == "__main__":

@@ -64,11 +64,10 @@ class Words(unittest.TestCase):
                 kind = sort(count)
                 self.assertEqual((kind.word(), kind.lines()), (f"{word}:{count}", 1))
 
-    def test_all_are_beneath_kind_and_none_is_another(self):
+    def test_all_are_beneath_kind(self):
         for one in CLASSES:
             self.assertTrue(issubclass(one, Kind), one)
-            for other in CLASSES:
-                self.assertEqual(issubclass(one, other), one is other, (one, other))
+            self.assertIsNot(one, Kind)
 
     def test_words_that_tell_no_kind(self):
         for word in (
