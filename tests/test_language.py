@@ -176,7 +176,13 @@ def walked_on_the_spot(node):
     above = node.above
     if isinstance(above, (ast.For, ast.comprehension)):
         return above.iter is node
-    return isinstance(above, ast.Call) and above.args[:1] == [node]
+    if not isinstance(above, ast.Call) or above.args[:1] != [node]:
+        return False
+    if isinstance(above.func, ast.Attribute):
+        return above.func.attr == "join" and isinstance(above.func.value, ast.Constant)
+    if above.func.id in ("min", "max"):
+        return len(above.args) == 1
+    return above.func.id in ("list", "tuple", "dict", "sorted", "sum", "any", "all", "enumerate", "zip")
 
 
 def call_faults(node, methods):
@@ -380,7 +386,7 @@ class Package(unittest.TestCase):
         self.assertIn("__init__", self.sources)
 
     def test_the_modules_are_there(self):
-        for name in ("errors", "kinds", "works", "runs"):
+        for name in ("errors", "kinds", "works", "runs", "beats", "lags", "least", "fewest"):
             self.assertIn(name, self.sources)
 
     def test_the_texts(self):
@@ -445,6 +451,8 @@ class Checker(unittest.TestCase):
             ("L19", "def f(x):\n    raise x\n"), ("L20", "def f(x, y):\n    return x is y\n"),
             ("L21", "def f(x: int):\n    return x\n"), ("L23", "def f(x):\n    return zip(x, x)\n"),
             ("L23", "def f(x):\n    for y in x:\n        x.append(y)\n"),
+            ("L23", "def f(x, y):\n    y.extend(x.values())\n"), ("L23", "def f(x):\n    return max(x.values(), 0)\n"),
+            ("L23", "def f(x):\n    return f(range(x))\n"), ("L23", "def f(x):\n    return len(x.items())\n"),
             ("L23", "def f(x):\n    y = x.items()\n    return y\n"), ("L24", "def f(x):\n    y = set(x)\n    return y\n"),
             ("L25", "def f(x):\n    return x.isnumeric()\n"), ("L25", "def f(x):\n    return x.append\n"),
             ("L26", "class A:\n    def f(self):\n        self.items = 1\n"), ("L27", "def f(x):\n    return 2 ** x\n"),
